@@ -1,0 +1,104 @@
+"""LANGUAGE.md, as far as a test can see it: sizes, characters, imports."""
+
+import ast
+import pathlib
+import unittest
+
+PACKAGE = pathlib.Path(__file__).resolve().parent.parent / "valuesmoved"
+LIBRARY = {
+    "heapq": ["heappush", "heappop", "heapify", "heapreplace", "heappushpop"],
+    "math": ["gcd", "lcm", "isqrt", "comb", "perm", "factorial"],
+    "itertools": ["product", "combinations", "permutations", "chain", "accumulate", "pairwise", "islice",
+                  "zip_longest"],
+    "collections": ["defaultdict", "deque"],
+    "__future__": ["annotations"],
+}
+MODULE_LEVEL = (ast.FunctionDef, ast.ClassDef, ast.ImportFrom, ast.Assign)
+NOT_ALLOWED = (ast.AsyncFunctionDef, ast.AsyncFor, ast.AsyncWith, ast.Await, ast.Import, ast.Div)
+
+
+def files():
+    return sorted(PACKAGE.rglob("*.py"))
+
+
+def tree_of(path):
+    return ast.parse(path.read_text(encoding="ascii"))
+
+
+def path_of(module):
+    return PACKAGE.parent / (module.replace(".", "/") + ".py")
+
+
+def imports_of(path):
+    return [node for node in ast.walk(tree_of(path)) if isinstance(node, (ast.Import, ast.ImportFrom))]
+
+
+class LanguageTest(unittest.TestCase):
+    def test_the_folder_holds_python_files_only(self):
+        names = [path.name for path in PACKAGE.iterdir() if path.name != "__pycache__"]
+        self.assertIn("__init__.py", names)
+        for name in names:
+            self.assertRegex(name, r"^[a-z_][a-z0-9_]*\.py$")
+
+    def test_sizes_and_characters(self):
+        for path in files():
+            text = path.read_bytes().decode("ascii")
+            with self.subTest(path=path.name):
+                self.assertLessEqual(len(text.split("\n")), 399)
+                self.assertLessEqual(max(len(line) for line in text.split("\n")), 120)
+                self.assertTrue(all(sign == "\n" or " " <= sign <= "~" for sign in text))
+                self.assertTrue(text.endswith("\n"))
+
+    def test_functions(self):
+        for path in files():
+            for node in ast.walk(tree_of(path)):
+                if isinstance(node, (ast.FunctionDef, ast.Lambda)):
+                    with self.subTest(path=path.name, line=node.lineno):
+                        self.assertLessEqual(node.end_lineno - node.lineno + 1, 40)
+
+    def test_imports(self):
+        for path in files():
+            for node in imports_of(path):
+                with self.subTest(path=path.name, line=node.lineno):
+                    self.assertIsInstance(node, ast.ImportFrom)
+                    self.assertEqual(node.level, 0)
+                    self.check_import(node)
+
+    def check_import(self, node):
+        names = [alias.name for alias in node.names]
+        if node.module in LIBRARY:
+            self.assertEqual([name for name in names if name not in LIBRARY[node.module]], [])
+            self.assertEqual([alias.asname for alias in node.names if alias.asname], [])
+            return
+        self.assertTrue(node.module.startswith("valuesmoved."))
+        body = tree_of(path_of(node.module)).body
+        defined = [part.name for part in body if isinstance(part, (ast.FunctionDef, ast.ClassDef))]
+        defined += [target.id for part in body if isinstance(part, ast.Assign) for target in part.targets]
+        self.assertEqual([name for name in names if name not in defined], [])
+
+    def test_no_two_files_import_from_each_other(self):
+        above = {path: [path_of(node.module) for node in imports_of(path) if node.module not in LIBRARY]
+                 for path in files()}
+        while above:
+            leaves = [path for path in above if not any(other in above for other in above[path])]
+            self.assertTrue(leaves, "files import from each other")
+            above = {path: above[path] for path in above if path not in leaves}
+
+    def test_module_level(self):
+        for path in files():
+            body = tree_of(path).body
+            self.assertIsNotNone(ast.get_docstring(tree_of(path)), path.name)
+            for node in body[1:]:
+                with self.subTest(path=path.name, line=node.lineno):
+                    self.assertIsInstance(node, MODULE_LEVEL)
+
+    def test_statements(self):
+        for path in files():
+            for node in ast.walk(tree_of(path)):
+                self.assertNotIsInstance(node, NOT_ALLOWED, path.name)
+                if isinstance(node, ast.Constant):
+                    self.assertNotIsInstance(node.value, float, path.name)
+
+
+if __name__ == "__main__":
+    unittest.main()

@@ -1,0 +1,171 @@
+"""[2], [3]: the errors of parameters, and the conventions, for each function."""
+
+import copy
+import inspect
+import unittest
+
+from tests.samples import SIGNATURES
+from valuesmoved.errors import InvalidNow, InvalidRow, InvalidWish, MoveError
+from valuesmoved.rows import after_row, does, lost, same_rows, sources_of, turned
+
+INDEXED = (InvalidNow, InvalidWish, InvalidRow)
+
+
+def right_arguments(parameters):
+    return {name: copy.deepcopy(right) for name, right, _, _ in parameters}
+
+
+def some_bad(bad):
+    """A few of the wrong arguments, each of another kind."""
+    found = bad()
+    return found[:: max(1, len(found) // 6)]
+
+
+def all_lists(value):
+    """All lists within a value, itself included."""
+    if isinstance(value, (list, tuple)):
+        within = [found for item in value for found in all_lists(item)]
+        return within + [value] if isinstance(value, list) else within
+    return []
+
+
+class ErrorsOfParametersTest(unittest.TestCase):
+    def check_raises(self, function, arguments, kind, index):
+        before = copy.copy(arguments)
+        with self.assertRaises(MoveError) as caught:
+            function(**arguments)
+        self.assertEqual(type(caught.exception), kind)
+        if kind in INDEXED:
+            self.assertEqual(caught.exception.index, index)
+            self.assertIsNot(caught.exception.index, False)
+        self.assertEqual(arguments, before)
+
+    def test_each_parameter(self):
+        for function, parameters in SIGNATURES:
+            for name, _, kind, bad in parameters:
+                if kind is not None:
+                    with self.subTest(function=function.__name__, name=name):
+                        self.check_all(function, parameters, name, kind, bad())
+
+    def check_all(self, function, parameters, name, kind, bad):
+        for value, index in bad:
+            arguments = right_arguments(parameters)
+            arguments[name] = value
+            self.check_raises(function, arguments, kind, index)
+
+    def test_the_first_of_several(self):
+        for function, parameters in SIGNATURES:
+            for at, (name, _, kind, bad) in enumerate(parameters):
+                if kind is not None:
+                    with self.subTest(function=function.__name__, name=name):
+                        self.check_first(function, parameters, at)
+
+    def check_first(self, function, parameters, at):
+        name, _, kind, bad = parameters[at]
+        for later, _, _, later_bad in parameters[at + 1:]:
+            for value, index in some_bad(bad):
+                for wrong, _ in some_bad(later_bad) if later_bad else [("any", None)]:
+                    arguments = right_arguments(parameters)
+                    arguments[name] = value
+                    arguments[later] = wrong
+                    self.check_raises(function, arguments, kind, index)
+
+    def test_the_second_row_counts_for_itself(self):
+        right, wrong = ("move", 0, 1), ("move", 1, 1)
+        with self.assertRaises(InvalidRow) as caught:
+            same_rows(2, [right, right, wrong], [wrong], [5])
+        self.assertEqual(caught.exception.index, 2)
+        with self.assertRaises(InvalidRow) as caught:
+            same_rows(2, [right, right], [right, wrong], [5])
+        self.assertEqual(caught.exception.index, 1)
+
+    def test_rows_count_the_cells(self):
+        for function, first in [(after_row, [1, 2]), (lost, [1, 2]), (sources_of, 2), (turned, 2)]:
+            with self.subTest(function=function.__name__), self.assertRaises(InvalidRow) as caught:
+                function(first, [("move", 0, 1), ("swap", 0, 2)])
+            self.assertEqual(caught.exception.index, 1)
+        self.assertIs(does([1, 2], [1, None], [("move", 0, 1), ("swap", 0, 2)]), False)
+
+    def test_limits_that_still_hold(self):
+        for function, parameters in SIGNATURES:
+            names = [name for name, _, _, _ in parameters]
+            arguments = right_arguments(parameters)
+            if "now" in names:
+                arguments["now"] = [10 ** 30, -(10 ** 30)] * 30
+            if "wish" in names:
+                arguments["wish"] = [10 ** 30, None, -(10 ** 30)] * 20
+            if "cells" in names:
+                arguments["cells"] = 60
+            if "row" in names:
+                arguments["row"] = [("move", 59, 0)] * 200
+            if "second" in names:
+                arguments["second"] = [("swap", 59, 58)] * 200
+            if "counted" in names:
+                arguments["counted"] = list(range(60))
+            with self.subTest(function=function.__name__):
+                function(**arguments)
+            if "cells" in names:
+                arguments.update({"cells": 1, "row": [], "second": [], "counted": [0]})
+                function(**{name: arguments[name] for name in names})
+            if function.__name__ in ("holders", "wanters"):
+                for value in (10 ** 30, -(10 ** 30), 0):
+                    function(**{**arguments, "value": value})
+
+
+class ConventionsTest(unittest.TestCase):
+    def test_names_of_parameters(self):
+        for function, parameters in SIGNATURES:
+            with self.subTest(function=function.__name__):
+                self.assertEqual(list(inspect.signature(function).parameters), [name for name, _, _, _ in parameters])
+
+    def test_by_position_and_by_name(self):
+        for function, parameters in SIGNATURES:
+            with self.subTest(function=function.__name__):
+                arguments = right_arguments(parameters)
+                by_position = function(*arguments.values())
+                self.assertEqual(by_position, function(**arguments))
+                self.assertEqual(by_position, function(**dict(reversed(arguments.items()))))
+
+    def test_arguments_stay(self):
+        for function, parameters in SIGNATURES:
+            with self.subTest(function=function.__name__):
+                arguments = right_arguments(parameters)
+                function(**arguments)
+                self.assertEqual(arguments, right_arguments(parameters))
+
+    def test_returned_lists_are_new(self):
+        for function, parameters in SIGNATURES:
+            with self.subTest(function=function.__name__):
+                arguments = right_arguments(parameters)
+                self.check_new(function, arguments, all_lists(list(arguments.values())))
+
+    def check_new(self, function, arguments, given):
+        result = function(**arguments)
+        first = copy.deepcopy(result)
+        for found in all_lists(result):
+            self.assertFalse(any(found is one for one in given))
+            found.append("more")
+        self.assertEqual(function(**arguments), first)
+
+    def test_the_empty_row_gives_a_new_list(self):
+        now = [1, 2]
+        self.assertIsNot(after_row(now, []), now)
+
+    def test_kinds_of_results(self):
+        for function, parameters in SIGNATURES:
+            with self.subTest(function=function.__name__):
+                result = function(**right_arguments(parameters))
+                if function.__name__.startswith("is_") or function.__name__ in ("does", "same_rows"):
+                    self.assertIs(type(result), bool)
+                elif function.__name__ not in ("missing", "turned"):
+                    self.assertIs(type(result), list)
+
+    def test_each_is_defined_in_its_file(self):
+        files = {"cells": 9, "rows": 7, "rings": 4}
+        for name, many in files.items():
+            module = "valuesmoved." + name
+            self.assertEqual(sum(function.__module__ == module for function, _ in SIGNATURES), many)
+
+
+if __name__ == "__main__":
+    unittest.main()

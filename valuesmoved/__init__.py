@@ -1,0 +1,1 @@
+"""Values in cells that shall stand elsewhere, all at once."""
