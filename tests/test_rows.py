@@ -105,7 +105,8 @@ class BehindTest(unittest.TestCase):
                 behind = by_the_words(now, row)
                 self.assertEqual(after_row(now, row), behind)
                 self.assertEqual(after_row(now, row), [now[cell] for cell in sources])
-                self.assertEqual(lost(now, row), [value for value in (4, 5, 6, 7) if value in now and value not in behind])
+                gone = [value for value in (4, 5, 6, 7) if value in now and value not in behind]
+                self.assertEqual(lost(now, row), gone)
 
     def test_lost(self):
         self.assertEqual(lost([9, 3, 5], [("move", 1, 0), ("move", 1, 2)]), [5, 9])

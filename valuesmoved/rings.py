@@ -44,6 +44,7 @@ def _following(now, wish):
     for value in needed(now, wish):
         wanting = wanters(now, wish, value)
         holding = holders(now, value)
+        # A further cell of the same way bars it as well: what is written first must be held nowhere else.
         if len(wanting) == 1 and len(holding) == 1:
             following[wanting[0]] = holding[0]
     return following
