@@ -1,9 +1,15 @@
 """Values of every kind for the tests, and the functions with arguments that are right and wrong."""
 
 from valuesmoved.cells import free_cells, holders, is_done, is_now, is_wish, missing, needed, wanters, wrong_cells
-from valuesmoved.errors import InvalidCell, InvalidNow, InvalidNumber, InvalidRow, InvalidWish, MoveError
+from valuesmoved.errors import InvalidCell, InvalidKinds, InvalidNow, InvalidNumber, InvalidRow, InvalidTicks
+from valuesmoved.errors import InvalidWish, MoveError
+from valuesmoved.fewest import fewest_moves, first_moves, refusal, shows_refusal, some_moves
+from valuesmoved.kinds import bound_rows, does_kinds, fewest_kind_moves, idle_registers, is_kind_row, loads
+from valuesmoved.kinds import shows_kind_bound, some_kind_moves
 from valuesmoved.rings import back_cells, is_ring, rings, spare_cells
 from valuesmoved.rows import after_row, does, is_row, lost, same_rows, sources_of, turned
+from valuesmoved.swaps import are_ways, fewest_steps, fewest_swaps, some_steps, some_swaps, some_ways
+from valuesmoved.ticks import after_ticks, does_ticks, fewest_ticks, is_ticks, some_ticks
 
 TOP = 10 ** 30
 HUGE = 10 ** 100 - 1
@@ -35,6 +41,15 @@ NO_STEPS = [
     ("move", None, 1), ("move", 0, None), ("move", "0", 1), ("swap", 0, "1"), ("swap", (0,), 1), ("move", 0, [1]),
     ("swap", {}, 1), ("move", 0, MoveError("a")),
 ]
+# What is no tick of the width 2 for three cells.
+NO_TICKS = [
+    None, True, 0, "", "move", {}, {(0, 1): 1}, MoveError("a"), [], (), ((0, 1),), (0, 1), [0, 1], [[0, 1]],
+    [()], [(0,)], [(0, 1, 2)], [("move", 0, 1)], [None], [0], [{}], [MoveError("a")], ["01"], [((0, 1),)],
+    [(0, 0)], [(2, 2), (0, 1)], [(0, 3)], [(3, 0)], [(0, 1), (3, 2)], [(-1, 0)], [(0, -1)], [(HUGE, 0)], [(0, -HUGE)],
+    [(0, True)], [(True, 0)], [(False, 1)], [(1, False)], [(0, 1), (1, None)], [(None, 1)], [("0", 1)], [([0], 1)],
+    [(0, 1), (2, 1)], [(0, 1), (0, 1)], [(0, 1), (1, 2), (2, 0)], [(0, 1), None], [None, (0, 1)], [(0, 1), [1, 0]],
+    [(0, 1)] * 4000,
+]
 
 
 def bad_now():
@@ -45,11 +60,12 @@ def bad_now():
     return found
 
 
-def bad_wish():
-    """Arguments that are no wish for three cells."""
-    found = [(value, None) for value in OTHERS + LISTS + [-1, 0, 3, [1, 2], [1, 2, 3, 4], [None] * 4, ["1"] * 2]]
+def bad_wish(cells=3):
+    """Arguments that are no wish for so many cells."""
+    short, more = [1, 2, 3, 4, 5][: cells - 1], [1, 2, 3, 4, 5, 6][: cells + 1]
+    found = [(value, None) for value in OTHERS + LISTS + [-1, 0, 3, short, more, [None] * (cells + 1), ["1"] * 2]]
     for item in NO_VALUES:
-        found += [([item, 1, None], 0), ([None, item, item], 1), ([1, 2, item], 2)]
+        found += [([item, 1, *short[1:]], 0), ([None, item, item, *short[2:]], 1), ([*short, item], cells - 1)]
     return found
 
 
@@ -60,6 +76,33 @@ def bad_row():
     for item in NO_STEPS:
         found += [([item], 0), ([right, item, item], 1), ([right] * 199 + [item], 199)]
     return found
+
+
+def bad_ticks():
+    """Arguments that are no ticks of the width 2 for three cells."""
+    right = [(0, 1), (1, 0)]
+    found = [(value, None) for value in OTHERS + [-1, 0, 3, [right] * 201, [None] * 201, (right,)]]
+    for item in NO_TICKS:
+        found += [([item], 0), ([right, item, item], 1), ([right] * 199 + [item], 199)]
+    return found
+
+
+def bad_width():
+    """Arguments that are no width."""
+    return [(value, None) for value in OTHERS + LISTS + [0, -1, 4, 5, 60, [2], "2", (2,)]]
+
+
+def bad_number():
+    """Arguments that are no integer from 0 on."""
+    return [(value, None) for value in OTHERS + LISTS + [-1, -2, [2], "2", (2,)] if value != HUGE]
+
+
+def bad_kinds(fewest, most):
+    """Arguments that are no string of so many letters r and m."""
+    wrong = ["r" * (fewest - 1), "m" * (most + 1), "r" * 4000, "R" * most, "M" * fewest, "r" * (most - 1) + "x",
+             "x" + "m" * (most - 1), "m" * (most - 1) + " ", " " * most, "0" * most, "r" * (most - 1) + "R", ["r", "m"],
+             ["r"] * most, ("r", "m"), ("r",) * most, [None] * most, {"r": 1}, {"rm": "rm"}, [["rm"]], most, -1, 0, 1]
+    return [(value, None) for value in wrong + OTHERS + LISTS]
 
 
 def bad_cells():
@@ -86,15 +129,29 @@ VALUE = ("value", 2, InvalidNumber, bad_value)
 ROW = ("row", [("move", 0, 2), ("swap", 1, 2)], InvalidRow, bad_row)
 SECOND = ("second", [("swap", 0, 1)], InvalidRow, bad_row)
 COUNTED = ("counted", [0, 2], InvalidCell, bad_counted)
-ANY = ("value", [("move", 0, 2), ("move", 1, 0), ("move", 2, 1)], None, None)
-ANY_RING = ("value", (0, 1), None, None)
-ANY_WISH = ("value", [2, 1, None], None, None)
-ANY_NOW = ("value", [1, 2, 3], None, None)
+WIDTH = ("width", 2, InvalidNumber, bad_width)
+NUMBER = ("number", 2, InvalidNumber, bad_number)
+TICKS = ("ticks", [[(0, 1), (1, 0)], [(2, 0)]], InvalidTicks, bad_ticks)
+FULL_WISH = ("wish", [2, 3, 1], InvalidWish, bad_wish)
+# Five cells, of which two are idle registers.
+KIND_NOW = ("now", [1, 2, 3, 8, 9], InvalidNow, bad_now)
+KIND_WISH = ("wish", [2, 1, 2, None, None], InvalidWish, lambda: bad_wish(5))
+KINDS = ("kinds", "rmmrr", InvalidKinds, lambda: bad_kinds(5, 5))
+ANY_KINDS = ("kinds", "rmr", InvalidKinds, lambda: bad_kinds(1, 60))
+
+
+def any_value(right):
+    """A parameter that accepts any value, with one for which the answer is True."""
+    return "value", right, None, None
+
+
+ANY = any_value([("move", 0, 2), ("move", 1, 0), ("move", 2, 1)])
+ANY_KIND_ROW = any_value([("move", 1, 3), ("move", 3, 2), ("move", 0, 1), ("move", 3, 0)])
 
 # Each function with its parameters: name, a right argument, the error, and arguments that raise it.
-SIGNATURES = [
-    (is_now, [ANY_NOW]),
-    (is_wish, [NOW, ANY_WISH]),
+BASIC = [
+    (is_now, [any_value([1, 2, 3])]),
+    (is_wish, [NOW, any_value([2, 1, None])]),
     (wrong_cells, [NOW, WISH]),
     (free_cells, [NOW, WISH]),
     (needed, [NOW, WISH]),
@@ -110,7 +167,34 @@ SIGNATURES = [
     (lost, [NOW, ROW]),
     (turned, [CELLS, ROW]),
     (rings, [NOW, WISH]),
-    (is_ring, [NOW, WISH, ANY_RING]),
+    (is_ring, [NOW, WISH, any_value((0, 1))]),
     (spare_cells, [NOW, WISH]),
     (back_cells, [NOW, WISH]),
 ]
+COSTS = [
+    (fewest_moves, [NOW, WISH]),
+    (some_moves, [NOW, WISH]),
+    (first_moves, [NOW, WISH]),
+    (refusal, [NOW, WISH, NUMBER]),
+    (shows_refusal, [NOW, WISH, NUMBER, any_value(("count", [0, 1], [(0, 1)], 0))]),
+    (is_ticks, [CELLS, WIDTH, any_value([[(0, 1), (1, 0)]])]),
+    (after_ticks, [NOW, WIDTH, TICKS]),
+    (fewest_ticks, [NOW, WISH, WIDTH]),
+    (some_ticks, [NOW, WISH, WIDTH]),
+    (does_ticks, [NOW, WISH, WIDTH, any_value([[(0, 1), (1, 0)]])]),
+    (fewest_steps, [NOW, WISH]),
+    (some_steps, [NOW, WISH]),
+    (some_ways, [NOW, WISH]),
+    (are_ways, [NOW, WISH, any_value([(0, 1)])]),
+    (fewest_swaps, [NOW, FULL_WISH]),
+    (some_swaps, [NOW, FULL_WISH]),
+    (is_kind_row, [ANY_KINDS, any_value([("move", 0, 1), ("move", 1, 2)])]),
+    (idle_registers, [KIND_NOW, KIND_WISH, KINDS]),
+    (loads, [KIND_NOW, KIND_WISH, KINDS]),
+    (bound_rows, [KIND_NOW, KIND_WISH, KINDS]),
+    (fewest_kind_moves, [KIND_NOW, KIND_WISH, KINDS]),
+    (some_kind_moves, [KIND_NOW, KIND_WISH, KINDS]),
+    (does_kinds, [KIND_NOW, KIND_WISH, KINDS, ANY_KIND_ROW]),
+    (shows_kind_bound, [KIND_NOW, KIND_WISH, KINDS, NUMBER, any_value(([0, 1, 2], [], [(0, 1)]))]),
+]
+SIGNATURES = BASIC + COSTS

@@ -13,6 +13,15 @@ LIBRARY = {
     "collections": ["defaultdict", "deque"],
     "__future__": ["annotations"],
 }
+BUILTINS = """len range enumerate zip min max sum abs sorted reversed int str bool list tuple dict set isinstance ord
+repr any all divmod map iter next super Exception ValueError TypeError KeyError IndexError LookupError
+RuntimeError""".split()
+METHODS = """append clear copy count endswith extend find get index insert isalnum isalpha isdigit islower isspace
+isupper items join keys ljust lower lstrip partition pop remove replace reverse rfind rjust rpartition rsplit rstrip
+setdefault split splitlines startswith strip update upper values zfill add discard""".split()
+# L17: these stand nowhere, not as names and not in strings.
+WORDS = """register mro elements open input law version_info type typing enum Enum Generic Protocol ABC namedtuple
+dataclass overload contextmanager""".split()
 MODULE_LEVEL = (ast.FunctionDef, ast.ClassDef, ast.ImportFrom, ast.Assign)
 NOT_ALLOWED = (ast.AsyncFunctionDef, ast.AsyncFor, ast.AsyncWith, ast.Await, ast.Import, ast.Div)
 
@@ -91,6 +100,43 @@ class LanguageTest(unittest.TestCase):
             for node in body[1:]:
                 with self.subTest(path=path.name, line=node.lineno):
                     self.assertIsInstance(node, MODULE_LEVEL)
+
+    def test_names_that_are_called(self):
+        nodes = [node for path in files() for node in ast.walk(tree_of(path))]
+        methods = [node.name for node in nodes if isinstance(node, ast.FunctionDef)]
+        for path in files():
+            tree = tree_of(path)
+            names = BUILTINS + [alias.name for node in imports_of(path) for alias in node.names]
+            names += [node.name for node in ast.walk(tree) if isinstance(node, (ast.FunctionDef, ast.ClassDef))]
+            for node in [node for node in ast.walk(tree) if isinstance(node, ast.Call)]:
+                with self.subTest(path=path.name, line=node.lineno):
+                    if isinstance(node.func, ast.Name):
+                        self.assertIn(node.func.id, names)
+                    else:
+                        self.assertIn(node.func.attr, METHODS + methods + ["__init__"])
+
+    def test_no_name_has_another_meaning(self):
+        for path in files():
+            tree = tree_of(path)
+            taken = BUILTINS + WORDS + [alias.name for node in imports_of(path) for alias in node.names]
+            taken += [node.name for node in tree.body if isinstance(node, ast.ClassDef)]
+            for node in ast.walk(tree):
+                name = node.arg if isinstance(node, ast.arg) else getattr(node, "id", None)
+                if isinstance(node, ast.arg) or isinstance(getattr(node, "ctx", None), ast.Store):
+                    with self.subTest(path=path.name, line=node.lineno):
+                        self.assertNotIn(name, taken)
+
+    def test_words_that_are_not_used(self):
+        for path in files():
+            tree = tree_of(path)
+            docs = [ast.get_docstring(node, clean=False) for node in ast.walk(tree)
+                    if isinstance(node, (ast.Module, ast.FunctionDef, ast.ClassDef))]
+            for node in ast.walk(tree):
+                if isinstance(node, ast.Constant) and isinstance(node.value, str) and node.value not in docs:
+                    self.assertFalse(set(node.value.split()) & set(WORDS), (path.name, node.lineno))
+                    self.assertNotIn("%", node.value)
+                if isinstance(node, ast.Attribute):
+                    self.assertNotIn(node.attr, WORDS)
 
     def test_statements(self):
         for path in files():

@@ -4,11 +4,15 @@ import copy
 import inspect
 import unittest
 
-from tests.samples import SIGNATURES
-from valuesmoved.errors import InvalidNow, InvalidRow, InvalidWish, MoveError
+from tests.samples import BASIC, COSTS, HUGE, SIGNATURES
+from valuesmoved.errors import InvalidNow, InvalidRow, InvalidTicks, InvalidWish, MoveError
+from valuesmoved.kinds import does_kinds, is_kind_row
 from valuesmoved.rows import after_row, does, lost, same_rows, sources_of, turned
+from valuesmoved.ticks import after_ticks, does_ticks, is_ticks
 
-INDEXED = (InvalidNow, InvalidWish, InvalidRow)
+INDEXED = (InvalidNow, InvalidWish, InvalidRow, InvalidTicks)
+YES_OR_NO = ("does", "does_ticks", "does_kinds", "same_rows", "are_ways", "shows_refusal", "shows_kind_bound")
+NUMBERS = ("fewest_moves", "fewest_ticks", "fewest_steps", "fewest_swaps", "fewest_kind_moves")
 
 
 def right_arguments(parameters):
@@ -86,8 +90,40 @@ class ErrorsOfParametersTest(unittest.TestCase):
             self.assertEqual(caught.exception.index, 1)
         self.assertIs(does([1, 2], [1, None], [("move", 0, 1), ("swap", 0, 2)]), False)
 
+    def test_ticks_count_the_cells(self):
+        with self.assertRaises(InvalidTicks) as caught:
+            after_ticks([1, 2], 3, [[(0, 1)], [(1, 0), (0, 1)], [(0, 2)]])
+        self.assertEqual(caught.exception.index, 2)
+        self.assertIs(does_ticks([1, 2], [1, None], 3, [[(0, 1)], [(0, 2)]]), False)
+        self.assertIs(is_ticks(2, 3, [[(0, 1)], [(0, 2)]]), False)
+
+    def test_limits_of_the_functions_that_tell_costs(self):
+        now = [10 ** 30, -(10 ** 30), *range(58)]
+        pairs = [now[cell ^ 1] for cell in range(60)]
+        free = [*pairs[:58], None, None]
+        ticks = [[(59, 0), (0, 59), (58, 1)]] * 200
+        for function, parameters in COSTS:
+            names = [name for name, _, _, _ in parameters]
+            whole = function.__name__ in ("fewest_swaps", "some_swaps")
+            for number, width in [(0, 1), (10 ** 40, 2), (HUGE, 3)]:
+                arguments = {**right_arguments(parameters), "now": now, "wish": pairs if whole else free, "cells": 60,
+                             "width": width, "number": number, "kinds": "rm" * 28 + "mmrr",
+                             "ticks": [tick[:width] for tick in ticks]}
+                with self.subTest(function=function.__name__, number=number, width=width):
+                    function(**{name: arguments[name] for name in names})
+
+    def test_one_cell(self):
+        for function, parameters in COSTS:
+            names = [name for name, _, _, _ in parameters]
+            # Fewer than two registers are idle where there is one cell.
+            if function.__name__ not in ("fewest_kind_moves", "some_kind_moves"):
+                arguments = {**right_arguments(parameters), "now": [7], "wish": [7], "kinds": "m", "cells": 1,
+                             "ticks": []}
+                with self.subTest(function=function.__name__):
+                    function(**{name: arguments[name] for name in names})
+
     def test_limits_that_still_hold(self):
-        for function, parameters in SIGNATURES:
+        for function, parameters in BASIC:
             names = [name for name, _, _, _ in parameters]
             arguments = right_arguments(parameters)
             if "now" in names:
@@ -155,13 +191,27 @@ class ConventionsTest(unittest.TestCase):
         for function, parameters in SIGNATURES:
             with self.subTest(function=function.__name__):
                 result = function(**right_arguments(parameters))
-                if function.__name__.startswith("is_") or function.__name__ in ("does", "same_rows"):
+                if function.__name__.startswith("is_") or function.__name__ in YES_OR_NO:
                     self.assertIs(type(result), bool)
-                elif function.__name__ not in ("missing", "turned"):
+                elif function.__name__ in NUMBERS:
+                    self.assertIs(type(result), int)
+                elif function.__name__ not in ("missing", "turned", "refusal"):
                     self.assertIs(type(result), list)
 
+    def test_right_values_are_accepted(self):
+        for function, parameters in COSTS:
+            if parameters[-1][0] == "value":
+                with self.subTest(function=function.__name__):
+                    self.assertIs(function(**right_arguments(parameters)), True)
+
+    def test_kinds_count_the_cells(self):
+        self.assertIs(is_kind_row("rr", [("move", 0, 1)]), True)
+        self.assertIs(is_kind_row("rr", [("move", 0, 2)]), False)
+        self.assertIs(does_kinds([1, 2], [1, None], "rr", [("move", 0, 1)]), True)
+        self.assertIs(does_kinds([1, 2], [1, None], "rr", [("move", 0, 2)]), False)
+
     def test_each_is_defined_in_its_file(self):
-        files = {"cells": 9, "rows": 7, "rings": 4}
+        files = {"cells": 9, "rows": 7, "rings": 4, "fewest": 5, "ticks": 5, "swaps": 6, "kinds": 8}
         for name, many in files.items():
             module = "valuesmoved." + name
             self.assertEqual(sum(function.__module__ == module for function, _ in SIGNATURES), many)

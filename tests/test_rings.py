@@ -4,34 +4,9 @@ import itertools
 import unittest
 
 from tests.samples import ANYTHING, HUGE
+from tests.words import back_by_the_words, rings_by_the_words, spare_by_the_words
 from valuesmoved.errors import MoveError
 from valuesmoved.rings import back_cells, is_ring, rings, spare_cells
-
-
-def wrong_ones(now, wish):
-    return [cell for cell in range(len(now)) if wish[cell] is not None and wish[cell] != now[cell]]
-
-
-def is_ring_by_the_words(now, wish, ring):
-    """Whether a tuple of different cells, two or more, is a ring."""
-    wrong = wrong_ones(now, wish)
-    if ring[0] != min(ring) or any(cell not in wrong for cell in ring):
-        return False
-    for at, cell in enumerate(ring):
-        following = ring[(at + 1) % len(ring)]
-        if wish[cell] != now[following]:
-            return False
-        if any(now[other] == wish[cell] for other in range(len(now)) if other != following):
-            return False
-        if any(wish[other] == wish[cell] for other in wrong if other != cell):
-            return False
-    return True
-
-
-def rings_by_the_words(now, wish):
-    cells = range(len(now))
-    tried = [way for many in range(2, len(now) + 1) for way in itertools.permutations(cells, many)]
-    return sorted(way for way in tried if is_ring_by_the_words(now, wish, way))
 
 
 class RingsTest(unittest.TestCase):
@@ -103,16 +78,9 @@ class RingsTest(unittest.TestCase):
                         self.check_by_the_words(list(now), list(wish))
 
     def check_by_the_words(self, now, wish):
-        cells = range(len(now))
-        found = rings_by_the_words(now, wish)
-        ringed = {cell for ring in found for cell in ring}
-        wrong = wrong_ones(now, wish)
-        right = [cell for cell in cells if wish[cell] == now[cell]]
-        spare = [cell for cell in cells if wish[cell] is None or (cell in wrong and cell not in ringed)]
-        back = [cell for cell in right if any(now[cell] == now[other] for other in right if other != cell)]
-        self.assertEqual(rings(now, wish), found)
-        self.assertEqual(spare_cells(now, wish), spare)
-        self.assertEqual(back_cells(now, wish), back)
+        self.assertEqual(rings(now, wish), rings_by_the_words(now, wish))
+        self.assertEqual(spare_cells(now, wish), spare_by_the_words(now, wish))
+        self.assertEqual(back_cells(now, wish), back_by_the_words(now, wish))
 
 
 class IsRingTest(unittest.TestCase):

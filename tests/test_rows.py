@@ -4,6 +4,7 @@ import itertools
 import unittest
 
 from tests.samples import ANYTHING, NO_STEPS, bad_row
+from tests.words import row_behind
 from valuesmoved.rows import after_row, does, is_row, lost, same_rows, sources_of, turned
 
 EXAMPLE = [("move", 0, 3), ("move", 1, 0), ("move", 3, 1)]
@@ -11,14 +12,6 @@ EXAMPLE = [("move", 0, 3), ("move", 1, 0), ("move", 3, 1)]
 
 def all_steps(cells):
     return [(word, a, b) for word in ("move", "swap") for a in range(cells) for b in range(cells) if a != b]
-
-
-def by_the_words(now, row):
-    """The content behind the row, one step after the other."""
-    for word, a, b in row:
-        behind = {b: now[a]} if word == "move" else {a: now[b], b: now[a]}
-        now = [behind.get(cell, item) for cell, item in enumerate(now)]
-    return now
 
 
 class IsRowTest(unittest.TestCase):
@@ -99,10 +92,10 @@ class BehindTest(unittest.TestCase):
     def test_all_short_rows_by_the_words(self):
         rows = [list(row) for many in (0, 1, 2) for row in itertools.product(all_steps(3), repeat=many)]
         for row in rows:
-            sources = by_the_words([0, 1, 2], row)
+            sources = row_behind([0, 1, 2], row)
             self.assertEqual(sources_of(3, row), sources)
             for now in ([4, 5, 6], [4, 5, 4], [7, 7, 7]):
-                behind = by_the_words(now, row)
+                behind = row_behind(now, row)
                 self.assertEqual(after_row(now, row), behind)
                 self.assertEqual(after_row(now, row), [now[cell] for cell in sources])
                 gone = [value for value in (4, 5, 6, 7) if value in now and value not in behind]

@@ -1,6 +1,7 @@
 """Contents of cells, wishes for them, and what a wish needs."""
 
 from valuesmoved.checks import MOST_CELLS, check_now, check_value, check_wish, is_held, is_list_of, is_wanted
+from valuesmoved.unchecked import missing_in, wrong_in
 
 
 def is_now(value):
@@ -17,7 +18,7 @@ def is_wish(now, value):
 def wrong_cells(now, wish):
     """The ascending list of the cells that want what they do not hold."""
     check_wish(now, wish)
-    return [cell for cell, item in enumerate(wish) if item is not None and item != now[cell]]
+    return wrong_in(now, wish)
 
 
 def free_cells(now, wish):
@@ -48,10 +49,9 @@ def wanters(now, wish, value):
 
 def missing(now, wish):
     """The least needed value that no cell holds, or None."""
-    for value in needed(now, wish):
-        if value not in now:
-            return value
-    return None
+    check_wish(now, wish)
+    absent = missing_in(now, wish)
+    return absent[0] if absent else None
 
 
 def is_done(now, wish):

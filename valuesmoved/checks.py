@@ -1,16 +1,25 @@
 """What the parameters must be, and the errors that they raise if they are not."""
 
-from valuesmoved.errors import InvalidCell, InvalidNow, InvalidNumber, InvalidRow, InvalidWish
+from valuesmoved.errors import InvalidCell, InvalidKinds, InvalidNow, InvalidNumber, InvalidRow, InvalidTicks
+from valuesmoved.errors import InvalidWish, Missing
+from valuesmoved.unchecked import missing_in
 
 LEAST_VALUE = -(10 ** 30)
 GREATEST_VALUE = 10 ** 30
 MOST_CELLS = 60
 MOST_STEPS = 200
+MOST_TICKS = 200
+MOST_WIDTH = 3
+
+
+def is_integer(value):
+    """Whether any value is an integer; a bool is none, although Python counts it as one."""
+    return isinstance(value, int) and not isinstance(value, bool)
 
 
 def is_between(value, least, greatest):
-    """Whether any value is an integer in this range; a bool is none, although Python counts it as one."""
-    return isinstance(value, int) and not isinstance(value, bool) and least <= value <= greatest
+    """Whether any value is an integer in this range."""
+    return is_integer(value) and least <= value <= greatest
 
 
 def is_held(item):
@@ -36,6 +45,18 @@ def is_step(cells, item):
     return word in ("move", "swap") and is_cell(cells, source) and is_cell(cells, target) and source != target
 
 
+def is_move(cells, item):
+    """Whether it is a move for so many cells, as ticks have them."""
+    return isinstance(item, tuple) and len(item) == 2 and is_step(cells, ("move", *item))
+
+
+def is_tick(cells, width, item):
+    """Whether it is a tick of the width for so many cells."""
+    if not is_list_of(item, 1, width) or not all([is_move(cells, move) for move in item]):
+        return False
+    return len({target for _, target in item}) == len(item)
+
+
 def is_list_of(value, fewest, most):
     """Whether any value is a list of so many items."""
     return isinstance(value, list) and fewest <= len(value) <= most
@@ -51,6 +72,30 @@ def is_cell_list(cells, value):
             return False
         least = cell + 1
     return True
+
+
+def is_way(value):
+    """Whether any value is a tuple of integers; to Python, (False, True) is equal to (0, 1)."""
+    return isinstance(value, tuple) and all([is_integer(item) for item in value])
+
+
+def is_ascending(items):
+    """Whether each item, integers or tuples of them, is greater than the one ahead of it."""
+    return all([first < second for first, second in zip(items, items[1:])])
+
+
+def is_numbers_of(value, found):
+    """Whether any value is an ascending list of some of these integers."""
+    if not isinstance(value, list) or not all([is_integer(item) and item in found for item in value]):
+        return False
+    return is_ascending(value)
+
+
+def is_ways_of(value, found):
+    """Whether any value is an ascending list of some of these tuples of cells."""
+    if not isinstance(value, list) or not all([is_way(item) and item in found for item in value]):
+        return False
+    return is_ascending(value)
 
 
 def check_now(now):
@@ -79,6 +124,40 @@ def check_row(cells, row):
     for index, item in enumerate(row):
         if not is_step(cells, item):
             raise InvalidRow(index)
+
+
+def check_ticks(cells, width, ticks):
+    """InvalidTicks unless they are ticks of the width for so many cells."""
+    if not is_list_of(ticks, 0, MOST_TICKS):
+        raise InvalidTicks(None)
+    for index, item in enumerate(ticks):
+        if not is_tick(cells, width, item):
+            raise InvalidTicks(index)
+
+
+def check_kinds(kinds, fewest, most):
+    """InvalidKinds unless it is a string of so many letters, each of them a kind."""
+    if not isinstance(kinds, str) or not fewest <= len(kinds) <= most or not all([kind in "rm" for kind in kinds]):
+        raise InvalidKinds("no string of one letter, r or m, for each cell")
+
+
+def check_nothing_missing(now, wish):
+    """Missing if a value is missing in a wish that is known to be right."""
+    absent = missing_in(now, wish)
+    if absent:
+        raise Missing(absent[0])
+
+
+def check_width(width):
+    """InvalidNumber unless a tick can be so wide."""
+    if not is_between(width, 1, MOST_WIDTH):
+        raise InvalidNumber("no integer from 1 to 3")
+
+
+def check_number(number):
+    """InvalidNumber unless it is an integer from 0 on."""
+    if not is_integer(number) or number < 0:
+        raise InvalidNumber("no integer from 0 on")
 
 
 def check_cells(cells):
