@@ -233,6 +233,15 @@ class KindsTest(unittest.TestCase):
         self.assertEqual(idle_registers([1, 2, 3], [9, None, None], "rrr"), [1, 2])
 
 
+    def test_lists_are_ascending(self):
+        # Cell 0 leads into the row behind the other one.
+        now, wish = [1, 2, 3, 4, 5, 6, 9, 9], [5, 3, 2, 4, 6, 5, None, None]
+        for kinds, bound in [("mrrmmrrr", [(1, 2), (4, 5)]), ("mrrmrmrr", [(1, 2), (4, 5)]), ("mrrmrrrr", [(1, 2)])]:
+            self.assertEqual(bound_rows(now, wish, kinds), bound)
+            self.check(now, wish, kinds, 5 + len(bound))
+        self.assertEqual(loads([7, 3, 5, 1], [5, 1, 3, 7], "mmmm"), [1, 3, 5, 7])
+
+
 class ErrorsTest(unittest.TestCase):
     def raised(self, function, *arguments):
         with self.assertRaises(MoveError) as caught:

@@ -132,6 +132,11 @@ class WaysTest(unittest.TestCase):
             # A right cell and a free one more do not count, whatever they hold.
             self.assertEqual(some_ways([*now, 1, 5], [*wish, 1, None]), ways)
 
+    def test_they_are_ascending(self):
+        # Cell 0 leads into the way behind the other one.
+        self.assertEqual(some_ways([1, 2, 3, 4, 5, 6], [5, 3, 2, 4, 6, 5]), [(1, 2), (4, 5)])
+        self.assertEqual(some_ways([1, 2, 3, 4, 2, 1], [3, 1, 4, 3, 4, 2]), [(1, 5), (2, 3)])
+
     def test_are_ways_by_the_words(self):
         closed = [(0, 1), (0, 2), (0, 3), (1, 2), (1, 3), (2, 3), (0, 1, 2), (0, 2, 1, 3), (0, 1, 2, 3), (0, 3, 1, 2)]
         values = [list(value) for many in range(4) for value in itertools.permutations(closed, many)]

@@ -224,6 +224,13 @@ class FewestTicksTest(unittest.TestCase):
             for width, number in zip(WIDTHS, numbers):
                 self.check(now, wish, width, number)
 
+    def test_rings_of_three_lend_no_room(self):
+        for lengths, numbers in [([3, 3, 3, 3, 2], [19, 9, 5]), ([3] * 5 + [2] * 3, [29, 13, 8]),
+                                 ([3] * 3 + [2] * 4, [24, 10, 6])]:
+            now, wish = with_rings(lengths, (9, None))
+            for width, number in zip(WIDTHS, numbers):
+                self.check(now, wish, width, number)
+
     def test_pairs_with_back_cells_alone(self):
         for pairs, numbers in [(1, [4, 1, 1]), (4, [13, 4, 4]), (5, [16, 5, 4]), (9, [28, 9, 7]), (29, [88, 29, 22])]:
             now, wish = with_rings([2] * pairs, (9, 9), (9, 9))

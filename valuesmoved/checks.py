@@ -47,7 +47,7 @@ def is_step(cells, item):
 
 def is_move(cells, item):
     """Whether it is a move for so many cells, as ticks have them."""
-    return isinstance(item, tuple) and len(item) == 2 and is_step(cells, ("move", *item))
+    return isinstance(item, tuple) and is_step(cells, ("move", *item))
 
 
 def is_tick(cells, width, item):

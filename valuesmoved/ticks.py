@@ -70,12 +70,14 @@ def _behind(now, ticks):
 
 
 def _best(now, wish, width):
-    """The fewest ticks and the rings that are broken then: None for them if all cells stay within their rings,
-    None for both if no ticks do the wish. Nothing is missing."""
+    """The fewest ticks, and the rings that are then broken through a scratch cell; nothing is missing.
+
+    None stands for the rings if no scratch cell is used at all, and for both if no ticks do the wish.
+    """
     found = rings_in(now, wish)
     back = back_moves(now, wish, found)
     ways = []
-    # With a spare cell, or without rings, the other way is never longer.
+    # Where a spare cell is at hand, this is never shorter than the way below.
     if back != 0 and width > 1:
         ways.append((sum([len(_ring_ticks(ring, width)) for ring in found]), None))
     if back is not None:
