@@ -1,13 +1,19 @@
 """Values of every kind for the tests, and the functions with arguments that are right and wrong."""
 
+import functools
+
 from valuesmoved.cells import free_cells, holders, is_done, is_now, is_wish, missing, needed, wanters, wrong_cells
-from valuesmoved.errors import InvalidCell, InvalidKinds, InvalidNow, InvalidNumber, InvalidRow, InvalidTicks
-from valuesmoved.errors import InvalidWish, MoveError
+from valuesmoved.counts import count_barred, count_costing, count_maps, dearest, nth_costing, total_moves
+from valuesmoved.errors import InvalidCell, InvalidKinds, InvalidNow, InvalidNumber, InvalidOrder, InvalidRow
+from valuesmoved.errors import InvalidSources, InvalidTicks, InvalidWish, MoveError
 from valuesmoved.fewest import fewest_moves, first_moves, refusal, shows_refusal, some_moves
 from valuesmoved.kinds import bound_rows, does_kinds, fewest_kind_moves, idle_registers, is_kind_row, loads
 from valuesmoved.kinds import shows_kind_bound, some_kind_moves
+from valuesmoved.orders import count_first, count_orders, is_order, nth_order, order_index, order_row, walk_orders
+from valuesmoved.powers import fewest_for, index_and_period, kept_cells, power_of, same_turns, turns_back
 from valuesmoved.rings import back_cells, is_ring, rings, spare_cells
 from valuesmoved.rows import after_row, does, is_row, lost, same_rows, sources_of, turned
+from valuesmoved.small import fewest_by_trying, reachable
 from valuesmoved.swaps import are_ways, fewest_steps, fewest_swaps, some_steps, some_swaps, some_ways
 from valuesmoved.ticks import after_ticks, does_ticks, fewest_ticks, is_ticks, some_ticks
 
@@ -122,6 +128,42 @@ def bad_counted():
     return [(value, None) for value in wrong + OTHERS + [item for item in LISTS if item] + [0, 1, 2, -1]]
 
 
+def bad_cell(cells):
+    """Arguments that are none of so many cells."""
+    return [(value, None) for value in OTHERS + LISTS + [cells, -1, -2, cells + 1, 60, 61, [1], "1", (1,), [[1]]]]
+
+
+def bad_sources():
+    """Arguments that are no source list."""
+    found = [(value, None) for value in OTHERS + [-1, 0, 1, [], [0] * 61, [0] * 4000, [None] * 61, (0, 1)]]
+    for item in [None, -1, 61, -60, True, False, "0", "", HUGE, -HUGE, (), (0,), [], [0], {}, {"0": 0}, MoveError("a")]:
+        found += [([item], 0), ([1, 2, item], 2), ([1, item, 2, item, None], 1), ([7] * 59 + [item], 59)]
+    return found + [([1], 0), ([0, 2], 1), ([0, 1, 3], 2), ([0, 1, 2, 5, 6], 3), ([60] * 60, 0), ([59] * 59 + [60], 59)]
+
+
+def bad_turns():
+    """Arguments that are no integer from 0 to 10 ** 30."""
+    return [(value, None) for value in OTHERS + LISTS + [-1, -2, TOP + 1, 10 * TOP, -TOP, [2], "2", (2,)]]
+
+
+def bad_order():
+    """Arguments that are no order for [7, 1, 2, 3] and [1, 7, 7, 7]."""
+    wrong = [[], [2], [2, 0], [2, 0, 1], [0, 2, 1, 3], [1, 0, 2, 3], [2, 1, 0, 3], [2, 3, 1, 0], [0, 1, 2, 3],
+             [3, 2, 1, 0], [2, 0, 1, 1], [2, 2, 0, 1], [2, 0, 1, 3, 3], [2, 0, 1, 4], [2, 0, 1, -1],
+             [2, 0, True, 3], [2, False, 1, 3], [2, 0, 1, "3"], [2, 0, 1, None], [2, 0, 1, (3,)], [[2, 0, 1, 3]],
+             (2, 0, 1, 3), "2013", {"2": 0}, 2013, [2, 0, 1, HUGE], [7, 1, 2, 3], [("move", 0, 2), ("move", 1, 0)],
+             [2, [0], 1, 3], [{}, 2, 0, 1]]
+    return [(value, None) for value in wrong + OTHERS + LISTS + [-1, 0, 1]]
+
+
+def walked(function):
+    """All that a function yields, under its name."""
+    @functools.wraps(function)
+    def walk(*arguments, **named):
+        return list(function(*arguments, **named))
+    return walk
+
+
 NOW = ("now", [1, 2, 3], InvalidNow, bad_now)
 WISH = ("wish", [2, 1, None], InvalidWish, bad_wish)
 CELLS = ("cells", 3, InvalidNumber, bad_cells)
@@ -137,7 +179,21 @@ FULL_WISH = ("wish", [2, 3, 1], InvalidWish, bad_wish)
 KIND_NOW = ("now", [1, 2, 3, 8, 9], InvalidNow, bad_now)
 KIND_WISH = ("wish", [2, 1, 2, None, None], InvalidWish, lambda: bad_wish(5))
 KINDS = ("kinds", "rmmrr", InvalidKinds, lambda: bad_kinds(5, 5))
+SMALL_KINDS = ("kinds", "rmr", InvalidKinds, lambda: bad_kinds(3, 3))
 ANY_KINDS = ("kinds", "rmr", InvalidKinds, lambda: bad_kinds(1, 60))
+# Six orders, which begin with cell 2 or 3.
+ORDER_NOW = ("now", [7, 1, 2, 3], InvalidNow, bad_now)
+ORDER_WISH = ("wish", [1, 7, 7, 7], InvalidWish, lambda: bad_wish(4))
+ORDER = ("order", [2, 0, 1, 3], InvalidOrder, bad_order)
+INDEX = ("index", 3, InvalidNumber, lambda: [*bad_number(), (-HUGE, None)])
+CELL = ("cell", 2, InvalidCell, lambda: bad_cell(4))
+SOURCES = ("sources", [1, 2, 3, 0, 0], InvalidSources, bad_sources)
+TURNS = ("turns", 10, InvalidNumber, bad_turns)
+MORE_TURNS = ("number", 14, InvalidNumber, bad_turns)
+FREE = ("free", 1, InvalidNumber, bad_number)
+WRONG = ("wrong", 2, InvalidNumber, bad_number)
+RINGED = ("ringed", 1, InvalidNumber, bad_number)
+COST = ("number", 3, InvalidNumber, bad_number)
 
 
 def any_value(right):
@@ -197,4 +253,27 @@ COSTS = [
     (does_kinds, [KIND_NOW, KIND_WISH, KINDS, ANY_KIND_ROW]),
     (shows_kind_bound, [KIND_NOW, KIND_WISH, KINDS, NUMBER, any_value(([0, 1, 2], [], [(0, 1)]))]),
 ]
-SIGNATURES = BASIC + COSTS
+TURNED = [
+    (fewest_by_trying, [NOW, WISH, SMALL_KINDS]),
+    (reachable, [NOW, SMALL_KINDS]),
+    (is_order, [ORDER_NOW, ORDER_WISH, any_value([2, 0, 1, 3])]),
+    (count_orders, [ORDER_NOW, ORDER_WISH]),
+    (nth_order, [ORDER_NOW, ORDER_WISH, INDEX]),
+    (order_index, [ORDER_NOW, ORDER_WISH, ORDER]),
+    (walked(walk_orders), [ORDER_NOW, ORDER_WISH]),
+    (count_first, [ORDER_NOW, ORDER_WISH, CELL]),
+    (order_row, [ORDER_NOW, ORDER_WISH, ORDER]),
+    (power_of, [SOURCES, TURNS]),
+    (index_and_period, [SOURCES]),
+    (same_turns, [SOURCES, TURNS, MORE_TURNS]),
+    (kept_cells, [SOURCES, TURNS]),
+    (turns_back, [SOURCES]),
+    (fewest_for, [SOURCES, FREE, TURNS]),
+    (count_maps, [CELLS, WRONG, RINGED]),
+    (count_costing, [CELLS, FREE, COST]),
+    (count_barred, [CELLS]),
+    (dearest, [CELLS]),
+    (total_moves, [CELLS]),
+    (nth_costing, [CELLS, FREE, COST, INDEX]),
+]
+SIGNATURES = BASIC + COSTS + TURNED

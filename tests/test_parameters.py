@@ -4,15 +4,19 @@ import copy
 import inspect
 import unittest
 
-from tests.samples import BASIC, COSTS, HUGE, SIGNATURES
-from valuesmoved.errors import InvalidNow, InvalidRow, InvalidTicks, InvalidWish, MoveError
+from tests.samples import BASIC, COSTS, HUGE, SIGNATURES, TURNED
+from valuesmoved.errors import InvalidNow, InvalidRow, InvalidSources, InvalidTicks, InvalidWish, MoveError
 from valuesmoved.kinds import does_kinds, is_kind_row
 from valuesmoved.rows import after_row, does, lost, same_rows, sources_of, turned
 from valuesmoved.ticks import after_ticks, does_ticks, is_ticks
 
-INDEXED = (InvalidNow, InvalidWish, InvalidRow, InvalidTicks)
-YES_OR_NO = ("does", "does_ticks", "does_kinds", "same_rows", "are_ways", "shows_refusal", "shows_kind_bound")
-NUMBERS = ("fewest_moves", "fewest_ticks", "fewest_steps", "fewest_swaps", "fewest_kind_moves")
+INDEXED = (InvalidNow, InvalidWish, InvalidRow, InvalidTicks, InvalidSources)
+YES_OR_NO = ("does", "does_ticks", "does_kinds", "same_rows", "are_ways", "shows_refusal", "shows_kind_bound",
+             "same_turns")
+NUMBERS = ("fewest_moves", "fewest_ticks", "fewest_steps", "fewest_swaps", "fewest_kind_moves", "fewest_by_trying",
+           "count_orders", "order_index", "count_first", "fewest_for", "count_maps", "count_costing", "count_barred",
+           "total_moves")
+TUPLES = ("index_and_period", "dearest")
 
 
 def right_arguments(parameters):
@@ -122,6 +126,30 @@ class ErrorsOfParametersTest(unittest.TestCase):
                 with self.subTest(function=function.__name__):
                     function(**{name: arguments[name] for name in names})
 
+    def test_limits_of_the_functions_that_count(self):
+        now = [10 ** 30, -(10 ** 30), *range(58)]
+        # Fifty-nine cells that go round, and one beside that must be written first.
+        wish = [*now[1:59], now[0], now[0]]
+        order = [59, *range(59)]
+        least = dict.fromkeys(("turns", "free", "index", "wrong", "ringed", "number"), 0)
+        great = {"turns": 10 ** 30, "free": HUGE, "index": 10 ** 20, "wrong": HUGE, "ringed": HUGE, "number": 10 ** 30}
+        for function, parameters in TURNED:
+            few = function.__name__ in ("fewest_by_trying", "reachable", "nth_costing")
+            for numbers in (least, great):
+                arguments = {**right_arguments(parameters), "now": now, "wish": wish, "order": order, "cell": 59,
+                             "sources": [*range(1, 60), 0], "cells": 60, "value": order, **numbers}
+                if few or (function.__name__ == "nth_order" and numbers is great):
+                    arguments = right_arguments(parameters)
+                with self.subTest(function=function.__name__, numbers=numbers):
+                    function(**{name: arguments[name] for name, _, _, _ in parameters})
+
+    def test_one_cell_of_the_functions_that_count(self):
+        for function, parameters in TURNED:
+            arguments = {**right_arguments(parameters), "now": [7], "wish": [7], "kinds": "m", "cells": 1, "cell": 0,
+                         "order": [], "sources": [0], "index": 0, "number": 0}
+            with self.subTest(function=function.__name__):
+                function(**{name: arguments[name] for name, _, _, _ in parameters})
+
     def test_limits_that_still_hold(self):
         for function, parameters in BASIC:
             names = [name for name, _, _, _ in parameters]
@@ -195,11 +223,13 @@ class ConventionsTest(unittest.TestCase):
                     self.assertIs(type(result), bool)
                 elif function.__name__ in NUMBERS:
                     self.assertIs(type(result), int)
-                elif function.__name__ not in ("missing", "turned", "refusal"):
+                elif function.__name__ in TUPLES:
+                    self.assertEqual([type(result), *map(type, result)], [tuple, int, int])
+                elif function.__name__ not in ("missing", "turned", "refusal", "turns_back"):
                     self.assertIs(type(result), list)
 
     def test_right_values_are_accepted(self):
-        for function, parameters in COSTS:
+        for function, parameters in COSTS + TURNED:
             if parameters[-1][0] == "value":
                 with self.subTest(function=function.__name__):
                     self.assertIs(function(**right_arguments(parameters)), True)
@@ -211,7 +241,8 @@ class ConventionsTest(unittest.TestCase):
         self.assertIs(does_kinds([1, 2], [1, None], "rr", [("move", 0, 2)]), False)
 
     def test_each_is_defined_in_its_file(self):
-        files = {"cells": 9, "rows": 7, "rings": 4, "fewest": 5, "ticks": 5, "swaps": 6, "kinds": 8}
+        files = {"cells": 9, "rows": 7, "rings": 4, "fewest": 5, "ticks": 5, "swaps": 6, "kinds": 8,
+                 "small": 2, "orders": 7, "powers": 6, "counts": 6}
         for name, many in files.items():
             module = "valuesmoved." + name
             self.assertEqual(sum(function.__module__ == module for function, _ in SIGNATURES), many)

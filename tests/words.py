@@ -73,5 +73,28 @@ def ticks_behind(now, ticks):
     return now
 
 
+def is_order_by_the_words(now, wish, cells):
+    """Whether these cells can be written in this sequence, each from a cell that holds then what it wants."""
+    for cell in cells:
+        if wish[cell] not in now:
+            return False
+        now = [wish[cell] if other == cell else item for other, item in enumerate(now)]
+    return True
+
+
+def orders_by_the_words(now, wish):
+    """The ascending list of all orders."""
+    return [list(cells) for cells in itertools.permutations(wrong_ones(now, wish))
+            if is_order_by_the_words(now, wish, cells)]
+
+
+def twice_ones(now, wish):
+    """The needed values that no right and no free cell holds, but two wrong cells do."""
+    wrong = wrong_ones(now, wish)
+    others = [now[cell] for cell in range(len(now)) if cell not in wrong]
+    held = [now[cell] for cell in wrong]
+    return sorted({wish[cell] for cell in wrong if wish[cell] not in others and held.count(wish[cell]) > 1})
+
+
 def is_done_by(behind, wish):
     return all(item is None or item == held for held, item in zip(behind, wish))

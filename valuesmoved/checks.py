@@ -1,7 +1,7 @@
 """What the parameters must be, and the errors that they raise if they are not."""
 
-from valuesmoved.errors import InvalidCell, InvalidKinds, InvalidNow, InvalidNumber, InvalidRow, InvalidTicks
-from valuesmoved.errors import InvalidWish, Missing
+from valuesmoved.errors import InvalidCell, InvalidKinds, InvalidNow, InvalidNumber, InvalidRow, InvalidSources
+from valuesmoved.errors import InvalidTicks, InvalidWish, Missing, TooLarge
 from valuesmoved.unchecked import missing_in
 
 LEAST_VALUE = -(10 ** 30)
@@ -10,6 +10,7 @@ MOST_CELLS = 60
 MOST_STEPS = 200
 MOST_TICKS = 200
 MOST_WIDTH = 3
+MOST_TURNS = 10 ** 30
 
 
 def is_integer(value):
@@ -135,6 +136,15 @@ def check_ticks(cells, width, ticks):
             raise InvalidTicks(index)
 
 
+def check_sources(sources):
+    """InvalidSources unless it is a source list."""
+    if not is_list_of(sources, 1, MOST_CELLS):
+        raise InvalidSources(None)
+    for index, item in enumerate(sources):
+        if not is_cell(len(sources), item):
+            raise InvalidSources(index)
+
+
 def check_kinds(kinds, fewest, most):
     """InvalidKinds unless it is a string of so many letters, each of them a kind."""
     if not isinstance(kinds, str) or not fewest <= len(kinds) <= most or not all([kind in "rm" for kind in kinds]):
@@ -160,6 +170,12 @@ def check_number(number):
         raise InvalidNumber("no integer from 0 on")
 
 
+def check_turns(turns):
+    """InvalidNumber unless a source list can be asked for so many turns."""
+    if not is_between(turns, 0, MOST_TURNS):
+        raise InvalidNumber("no integer from 0 to 10 ** 30")
+
+
 def check_cells(cells):
     """InvalidNumber unless there can be so many cells."""
     if not is_between(cells, 1, MOST_CELLS):
@@ -170,6 +186,18 @@ def check_value(value):
     """InvalidNumber unless a cell can hold it."""
     if not is_held(value):
         raise InvalidNumber("no integer that a cell can hold")
+
+
+def check_cell(cells, cell):
+    """InvalidCell unless it is one of so many cells."""
+    if not is_cell(cells, cell):
+        raise InvalidCell("none of the cells")
+
+
+def check_few(cells, limit):
+    """TooLarge if there are more cells than can be tried."""
+    if cells > limit:
+        raise TooLarge(limit)
 
 
 def check_counted(cells, counted):
