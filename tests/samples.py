@@ -3,9 +3,10 @@
 import functools
 
 from valuesmoved.cells import free_cells, holders, is_done, is_now, is_wish, missing, needed, wanters, wrong_cells
+from valuesmoved.changes import best_drops, fewest_with, unlocking, with_copy, with_free
 from valuesmoved.counts import count_barred, count_costing, count_maps, dearest, nth_costing, total_moves
 from valuesmoved.errors import InvalidCell, InvalidKinds, InvalidNow, InvalidNumber, InvalidOrder, InvalidRow
-from valuesmoved.errors import InvalidSources, InvalidTicks, InvalidWish, MoveError
+from valuesmoved.errors import InvalidSources, InvalidText, InvalidTicks, InvalidWish, MoveError
 from valuesmoved.fewest import fewest_moves, first_moves, refusal, shows_refusal, some_moves
 from valuesmoved.kinds import bound_rows, does_kinds, fewest_kind_moves, idle_registers, is_kind_row, loads
 from valuesmoved.kinds import shows_kind_bound, some_kind_moves
@@ -15,6 +16,7 @@ from valuesmoved.rings import back_cells, is_ring, rings, spare_cells
 from valuesmoved.rows import after_row, does, is_row, lost, same_rows, sources_of, turned
 from valuesmoved.small import fewest_by_trying, reachable
 from valuesmoved.swaps import are_ways, fewest_steps, fewest_swaps, some_steps, some_swaps, some_ways
+from valuesmoved.texts import format_now, format_row, format_wish, parse_now, parse_row, parse_wish
 from valuesmoved.ticks import after_ticks, does_ticks, fewest_ticks, is_ticks, some_ticks
 
 TOP = 10 ** 30
@@ -156,6 +158,61 @@ def bad_order():
     return [(value, None) for value in wrong + OTHERS + LISTS + [-1, 0, 1]]
 
 
+def bad_item():
+    """Arguments that are no item of a wish."""
+    return [(value, None) for value in NO_VALUES]
+
+
+# Words that are no number, and no item of a wish either.
+NO_NUMBERS = [
+    "", "-0", "00", "01", "-01", "0001", "+1", "+", "--1", "--", "-+1", "1-", "1-2", "1.0", "1.", ".5", "1e3", "0x1",
+    "1_0", "_1", "1,2", "1,", "(1)", "[1]", "none", "None", "True", "x", "1x", "x1", "-x", "~", "'1'", "1>2", "0=1",
+    str(TOP + 1), str(-TOP - 1), str(TOP * 10), "9" * 31, "1" * 32, "9" * 100, "1" * 3000, "-" + "7" * 3000, "0" * 40,
+]
+# Words that are no step for three cells.
+NO_STEP_WORDS = [
+    "", "0", "1", "-", ">", "=", "0>", ">1", "=1", "0=", "0>0", "2=2", "0>3", "3>0", "0=3", "3=1", "-1>0", "0>-1",
+    "-0>1", "0>-0", "00>1", "0>01", "01=2", "0<1", "0-1", "0,1", "0>1>2", "0=1=2", "0=1>2", "0>1=2", "0>>1", "0==1",
+    "0>=1", "0=>1", "0>1;", "(0>1)", "+0>1", "0>+1", "0>x", "x>0", "a=b", "move", "swap", "move(0,1)", "0>1.0",
+    "0>None", "0>" + "1" * 3000, str(TOP) + ">1", "0=" + str(TOP), "0_>1",
+]
+
+
+def no_strings():
+    return [(value, None) for value in OTHERS + LISTS + [-1, 0, 1, 60, 61] if not isinstance(value, str)]
+
+
+def bad_now_text():
+    """Arguments that are no text of a content."""
+    found = no_strings()
+    for word in [*NO_NUMBERS, "-"]:
+        found += [(word, 0), (word + " 1", 0), ("1 2 " + word, 2), ("1 " + word + " 2 " + word, 1)]
+        found += [("7 " * 59 + word, 59)]
+    found += [(" ", 0), ("  ", 0), (" 1", 0), ("1 ", 1), ("1  2", 1), ("1 2 ", 2), ("1 2  ", 2)]
+    return found + [("7 " * 60 + "7", 60), ("7 " * 60 + "x", 60), ("7 " * 60, 60), ("7 " * 1999, 60),
+                    ("7 " * 40 + "x" + " 7" * 40, 40)]
+
+
+def bad_wish_text():
+    """Arguments that are no text of a wish for three cells."""
+    found = no_strings()
+    for word in NO_NUMBERS:
+        found += [(word, 0), (word + " -", 0), ("1 - " + word, 2), ("- " + word + " - " + word, 1)]
+    found += [("1", 1), ("-", 1), ("1 2", 2), ("- -", 2), ("1 2 3 4", 3), ("- - - -", 3), ("- - - x", 3), ("- - - ", 3)]
+    return found + [("- ", 1), (" -", 0), ("-  -", 1), ("- " * 1999, 3), ("- x - - -", 1)]
+
+
+def bad_row_text():
+    """Arguments that are no text of a row for three cells."""
+    found = no_strings()
+    for word in NO_STEP_WORDS:
+        found += [(word + " 0>1", 0), ("0>1 1=2 " + word, 2), ("0>1 " + word + " " + word, 1)]
+        found += [("2=1 " * 199 + word, 199)] + ([(word, 0)] if word else [])
+    found += [(" ", 0), ("  ", 0), (" 0>1", 0), ("0>1 ", 1), ("0>1  1>0", 1), ("0 > 1", 0), ("0>1 1 = 2", 1)]
+    return found + [("0>1 " * 200 + "0>1", 200), ("0>1 " * 200, 200), ("0>1 " * 999, 200),
+                    ("0>1 " * 7 + "x" + " 0>1" * 300, 7)]
+
+
 def walked(function):
     """All that a function yields, under its name."""
     @functools.wraps(function)
@@ -194,6 +251,11 @@ FREE = ("free", 1, InvalidNumber, bad_number)
 WRONG = ("wrong", 2, InvalidNumber, bad_number)
 RINGED = ("ringed", 1, InvalidNumber, bad_number)
 COST = ("number", 3, InvalidNumber, bad_number)
+THIRD = ("cell", 2, InvalidCell, lambda: bad_cell(3))
+ITEM = ("item", 1, InvalidNumber, bad_item)
+NOW_TEXT = ("text", "5 -6 5", InvalidText, bad_now_text)
+WISH_TEXT = ("text", "2 - -7", InvalidText, bad_wish_text)
+ROW_TEXT = ("text", "0>2 1=2", InvalidText, bad_row_text)
 
 
 def any_value(right):
@@ -276,4 +338,17 @@ TURNED = [
     (total_moves, [CELLS]),
     (nth_costing, [CELLS, FREE, COST, INDEX]),
 ]
-SIGNATURES = BASIC + COSTS + TURNED
+CHANGED = [
+    (fewest_with, [NOW, WISH, THIRD, ITEM]),
+    (with_free, [NOW, WISH, NUMBER]),
+    (with_copy, [NOW, WISH, VALUE]),
+    (best_drops, [NOW, WISH]),
+    (unlocking, [NOW, WISH]),
+    (format_now, [NOW]),
+    (format_wish, [NOW, WISH]),
+    (format_row, [CELLS, ROW]),
+    (parse_now, [NOW_TEXT]),
+    (parse_wish, [NOW, WISH_TEXT]),
+    (parse_row, [CELLS, ROW_TEXT]),
+]
+SIGNATURES = BASIC + COSTS + TURNED + CHANGED

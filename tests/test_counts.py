@@ -53,8 +53,9 @@ class CountsTest(unittest.TestCase):
         for number in range(2 * cells + 2):
             expected = sorted(list(sources) for sources, cost in least.items() if cost == number)
             self.assertEqual(count_costing(cells, free, number), len(expected), (cells, free, number))
-            found = [nth_costing(cells, free, number, index) for index in range(0, len(expected), 1 if cells < 5 else 97)]
-            self.assertEqual(found, expected[:: 1 if cells < 5 else 97])
+            some = 1 if cells < 5 else 97
+            found = [nth_costing(cells, free, number, index) for index in range(0, len(expected), some)]
+            self.assertEqual(found, expected[::some])
             self.assertEqual(nth_costing(cells, free, number, len(expected) - 1) if expected else None,
                              expected[-1] if expected else None)
             for beyond in (len(expected), len(expected) + 1, HUGE):

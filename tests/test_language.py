@@ -101,12 +101,38 @@ class LanguageTest(unittest.TestCase):
                 with self.subTest(path=path.name, line=node.lineno):
                     self.assertIsInstance(node, MODULE_LEVEL)
 
+    def test_decorators(self):
+        for path in files():
+            for node in ast.walk(tree_of(path)):
+                for decorator in getattr(node, "decorator_list", []):
+                    self.assertEqual(ast.unparse(decorator), "property", path.name)
+
+    def test_what_is_asked_for_its_class_is_compared_at_once(self):
+        for path in files():
+            tree = tree_of(path)
+            asked = [ast.unparse(node) for node in ast.walk(tree)
+                     if isinstance(node, ast.Call) and getattr(node.func, "id", "") == "type"]
+            compared = [ast.unparse(side) for node in ast.walk(tree) if isinstance(node, ast.Compare)
+                        and isinstance(node.ops[0], ast.Is) for side in [node.left, *node.comparators]]
+            self.assertEqual([one for one in asked if one not in compared], [], path.name)
+
+    def test_generators_are_iterated_at_once(self):
+        yields = [node.name for path in files() for node in ast.walk(tree_of(path)) if isinstance(node, ast.FunctionDef)
+                  and any(isinstance(part, (ast.Yield, ast.YieldFrom)) for part in ast.walk(node))]
+        for path in files():
+            nodes = list(ast.walk(tree_of(path)))
+            calls = [node for node in nodes if isinstance(node, ast.Call) and getattr(node.func, "id", "") in yields]
+            iterated = [node.iter for node in nodes if isinstance(node, (ast.For, ast.comprehension))]
+            iterated += [node.value for node in nodes if isinstance(node, ast.YieldFrom)]
+            self.assertEqual([node.lineno for node in calls if node not in iterated], [], path.name)
+            self.assertEqual([node.lineno for node in nodes if isinstance(node, ast.GeneratorExp)], [], path.name)
+
     def test_names_that_are_called(self):
         nodes = [node for path in files() for node in ast.walk(tree_of(path))]
         methods = [node.name for node in nodes if isinstance(node, ast.FunctionDef)]
         for path in files():
             tree = tree_of(path)
-            names = BUILTINS + [alias.name for node in imports_of(path) for alias in node.names]
+            names = BUILTINS + ["type"] + [alias.name for node in imports_of(path) for alias in node.names]
             names += [node.name for node in ast.walk(tree) if isinstance(node, (ast.FunctionDef, ast.ClassDef))]
             for node in [node for node in ast.walk(tree) if isinstance(node, ast.Call)]:
                 with self.subTest(path=path.name, line=node.lineno):

@@ -105,9 +105,9 @@ class SmallTest(Checks):
                 self.check_all(now, chance.choices([*now, None], k=cells))
 
     def test_a_way_round_with_others_below_it(self):
-        for sources in [[1, 0, 0], [1, 2, 0, 0], [1, 2, 0, 0, 1], [1, 2, 0, 0, 1, 2], [1, 0, 0, 2, 0], [1, 0, 0, 2, 2, 3],
-                        [1, 2, 3, 0, 0, 2], [1, 2, 3, 4, 0, 0], [1, 2, 3, 0, 0, 4, 4], [1, 0, 0, 4, 3, 3],
-                        [1, 0, 0, 4, 3, None]]:
+        for sources in [[1, 0, 0], [1, 2, 0, 0], [1, 2, 0, 0, 1], [1, 2, 0, 0, 1, 2], [1, 0, 0, 2, 0],
+                        [1, 0, 0, 2, 2, 3], [1, 2, 3, 0, 0, 2], [1, 2, 3, 4, 0, 0], [1, 2, 3, 0, 0, 4, 4],
+                        [1, 0, 0, 4, 3, 3], [1, 0, 0, 4, 3, None]]:
             self.check_all(*from_sources(sources))
 
     def test_nothing_is_wrong(self):

@@ -4,18 +4,20 @@ import copy
 import inspect
 import unittest
 
-from tests.samples import BASIC, COSTS, HUGE, SIGNATURES, TURNED
-from valuesmoved.errors import InvalidNow, InvalidRow, InvalidSources, InvalidTicks, InvalidWish, MoveError
+from tests.samples import BASIC, CHANGED, COSTS, HUGE, SIGNATURES, TURNED
+from valuesmoved.errors import InvalidNow, InvalidRow, InvalidSources, InvalidText, InvalidTicks, InvalidWish
+from valuesmoved.errors import MoveError
 from valuesmoved.kinds import does_kinds, is_kind_row
 from valuesmoved.rows import after_row, does, lost, same_rows, sources_of, turned
 from valuesmoved.ticks import after_ticks, does_ticks, is_ticks
 
-INDEXED = (InvalidNow, InvalidWish, InvalidRow, InvalidTicks, InvalidSources)
+INDEXED = (InvalidNow, InvalidWish, InvalidRow, InvalidTicks, InvalidSources, InvalidText)
 YES_OR_NO = ("does", "does_ticks", "does_kinds", "same_rows", "are_ways", "shows_refusal", "shows_kind_bound",
              "same_turns")
 NUMBERS = ("fewest_moves", "fewest_ticks", "fewest_steps", "fewest_swaps", "fewest_kind_moves", "fewest_by_trying",
            "count_orders", "order_index", "count_first", "fewest_for", "count_maps", "count_costing", "count_barred",
-           "total_moves")
+           "total_moves", "fewest_with", "with_free", "with_copy")
+STRINGS = ("format_now", "format_wish", "format_row")
 TUPLES = ("index_and_period", "dearest")
 
 
@@ -44,8 +46,9 @@ class ErrorsOfParametersTest(unittest.TestCase):
             function(**arguments)
         self.assertEqual(type(caught.exception), kind)
         if kind in INDEXED:
-            self.assertEqual(caught.exception.index, index)
-            self.assertIsNot(caught.exception.index, False)
+            found = list(vars(caught.exception).items())
+            self.assertEqual(found, [("place" if kind is InvalidText else "index", index)])
+            self.assertIs(type(found[0][1]), type(index))
         self.assertEqual(arguments, before)
 
     def test_each_parameter(self):
@@ -150,6 +153,26 @@ class ErrorsOfParametersTest(unittest.TestCase):
             with self.subTest(function=function.__name__):
                 function(**{name: arguments[name] for name, _, _, _ in parameters})
 
+    def test_limits_of_the_functions_that_change(self):
+        now = [10 ** 30, -(10 ** 30), *range(58)]
+        words = " ".join(map(str, now))
+        texts = {"parse_now": words, "parse_wish": words.replace("57", "-"), "parse_row": "59>0 " * 199 + "0=59"}
+        for function, parameters in CHANGED:
+            for number, item in [(0, None), (10 ** 40, 10 ** 30), (HUGE, -(10 ** 30))]:
+                arguments = {**right_arguments(parameters), "now": now, "wish": [*now[30:], *[None] * 30], "cells": 60,
+                             "cell": 59, "item": item, "number": number, "value": item or 0,
+                             "row": [("swap", 59, 0)] * 200, "text": texts.get(function.__name__)}
+                with self.subTest(function=function.__name__, number=number):
+                    function(**{name: arguments[name] for name, _, _, _ in parameters})
+
+    def test_one_cell_of_the_functions_that_change(self):
+        texts = {"parse_now": "7", "parse_wish": "-", "parse_row": ""}
+        for function, parameters in CHANGED:
+            arguments = {**right_arguments(parameters), "now": [7], "wish": [7], "cells": 1, "cell": 0, "item": None,
+                         "row": [], "text": texts.get(function.__name__)}
+            with self.subTest(function=function.__name__):
+                function(**{name: arguments[name] for name, _, _, _ in parameters})
+
     def test_limits_that_still_hold(self):
         for function, parameters in BASIC:
             names = [name for name, _, _, _ in parameters]
@@ -223,6 +246,10 @@ class ConventionsTest(unittest.TestCase):
                     self.assertIs(type(result), bool)
                 elif function.__name__ in NUMBERS:
                     self.assertIs(type(result), int)
+                elif function.__name__ in STRINGS:
+                    self.assertIs(type(result), str)
+                elif function.__name__ == "best_drops":
+                    self.assertEqual([type(result), *map(type, result)], [tuple, int, list])
                 elif function.__name__ in TUPLES:
                     self.assertEqual([type(result), *map(type, result)], [tuple, int, int])
                 elif function.__name__ not in ("missing", "turned", "refusal", "turns_back"):
@@ -242,7 +269,7 @@ class ConventionsTest(unittest.TestCase):
 
     def test_each_is_defined_in_its_file(self):
         files = {"cells": 9, "rows": 7, "rings": 4, "fewest": 5, "ticks": 5, "swaps": 6, "kinds": 8,
-                 "small": 2, "orders": 7, "powers": 6, "counts": 6}
+                 "small": 2, "orders": 7, "powers": 6, "counts": 6, "changes": 5, "texts": 6}
         for name, many in files.items():
             module = "valuesmoved." + name
             self.assertEqual(sum(function.__module__ == module for function, _ in SIGNATURES), many)

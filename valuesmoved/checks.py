@@ -122,7 +122,12 @@ def check_row(cells, row):
     """InvalidRow unless it is a row for so many cells."""
     if not is_list_of(row, 0, MOST_STEPS):
         raise InvalidRow(None)
-    for index, item in enumerate(row):
+    check_steps(cells, row)
+
+
+def check_steps(cells, steps):
+    """InvalidRow unless each one is a step for so many cells."""
+    for index, item in enumerate(steps):
         if not is_step(cells, item):
             raise InvalidRow(index)
 
@@ -176,6 +181,12 @@ def check_turns(turns):
         raise InvalidNumber("no integer from 0 to 10 ** 30")
 
 
+def check_item(item):
+    """InvalidNumber unless it can be an item of a wish."""
+    if not is_wanted(item):
+        raise InvalidNumber("no item of a wish")
+
+
 def check_cells(cells):
     """InvalidNumber unless there can be so many cells."""
     if not is_between(cells, 1, MOST_CELLS):
@@ -192,6 +203,14 @@ def check_cell(cells, cell):
     """InvalidCell unless it is one of so many cells."""
     if not is_cell(cells, cell):
         raise InvalidCell("none of the cells")
+
+
+def check_pair(cells, cell, other):
+    """InvalidCell unless these are two different ones of so many cells."""
+    check_cell(cells, cell)
+    check_cell(cells, other)
+    if cell == other:
+        raise InvalidCell("the same cell twice")
 
 
 def check_few(cells, limit):

@@ -3,6 +3,7 @@
 from valuesmoved.cells import is_done
 from valuesmoved.checks import MOST_STEPS, check_cells, check_counted, check_now, check_row, check_wish
 from valuesmoved.checks import is_list_of, is_step
+from valuesmoved.unchecked import behind_row
 
 
 def is_row(cells, value):
@@ -15,14 +16,14 @@ def after_row(now, row):
     """The content behind the row."""
     check_now(now)
     check_row(len(now), row)
-    return _behind(now, row)
+    return behind_row(now, row)
 
 
 def sources_of(cells, row):
     """The list that tells for each cell which cell's first value it holds behind the row."""
     check_cells(cells)
     check_row(cells, row)
-    return _behind(list(range(cells)), row)
+    return behind_row(list(range(cells)), row)
 
 
 def same_rows(cells, row, second, counted):
@@ -51,14 +52,3 @@ def turned(cells, row):
     if sorted(sources) != list(range(cells)):
         return None
     return [sources.index(cell) for cell in range(cells)]
-
-
-def _behind(held, row):
-    """What the cells hold behind a row that is known to be right."""
-    left = list(held)
-    for word, source, target in row:
-        if word == "move":
-            left[target] = left[source]
-        else:
-            left[source], left[target] = left[target], left[source]
-    return left

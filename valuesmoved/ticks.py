@@ -3,7 +3,7 @@
 from valuesmoved.checks import MOST_TICKS, check_cells, check_nothing_missing, check_now, check_ticks, check_width
 from valuesmoved.checks import check_wish, is_list_of, is_tick
 from valuesmoved.errors import NoMoves
-from valuesmoved.unchecked import back_moves, missing_in, rings_in, wrong_in
+from valuesmoved.unchecked import back_moves, behind_ticks, missing_in, rings_in, wrong_in
 from valuesmoved.writing import writes_in
 
 
@@ -19,7 +19,7 @@ def after_ticks(now, width, ticks):
     check_now(now)
     check_width(width)
     check_ticks(len(now), width, ticks)
-    return _behind(now, ticks)
+    return behind_ticks(now, ticks)
 
 
 def fewest_ticks(now, wish, width):
@@ -51,22 +51,12 @@ def does_ticks(now, wish, width, value):
     """Whether any value is ticks of the width that do the wish."""
     check_wish(now, wish)
     check_width(width)
-    return _are_ticks(len(now), width, value) and not wrong_in(_behind(now, value), wish)
+    return _are_ticks(len(now), width, value) and not wrong_in(behind_ticks(now, value), wish)
 
 
 def _are_ticks(cells, width, value):
     """Whether any value is ticks, for cells and a width that are known to be right."""
     return is_list_of(value, 0, MOST_TICKS) and all([is_tick(cells, width, item) for item in value])
-
-
-def _behind(now, ticks):
-    """What the cells hold behind ticks that are known to be right."""
-    held = list(now)
-    for tick in ticks:
-        read = list(held)
-        for source, target in tick:
-            held[target] = read[source]
-    return held
 
 
 def _best(now, wish, width):
@@ -125,5 +115,5 @@ def _filled(now, turns, writes, width):
         left = left[room:]
         if tick:
             ticks.append(tick)
-            held = _behind(held, [tick])
+            held = behind_ticks(held, [tick])
     return ticks

@@ -1,4 +1,4 @@
-"""What a content and a wish for it need; the callers have checked both, so nothing here does it again."""
+"""What a content and a wish for it need, and what is behind steps; the callers have checked all of it."""
 
 
 def wrong_in(now, wish):
@@ -87,3 +87,24 @@ def fewest_in(now, wish):
     found = rings_in(now, wish)
     back = back_moves(now, wish, found)
     return None if back is None else len(wrong_in(now, wish)) + len(found) + back
+
+
+def behind_row(held, row):
+    """What the cells hold behind a row of steps."""
+    left = list(held)
+    for word, source, target in row:
+        if word == "move":
+            left[target] = left[source]
+        else:
+            left[source], left[target] = left[target], left[source]
+    return left
+
+
+def behind_ticks(held, ticks):
+    """What the cells hold behind ticks, all cells of one read before one is written."""
+    left = list(held)
+    for tick in ticks:
+        read = list(left)
+        for source, target in tick:
+            left[target] = read[source]
+    return left
