@@ -117,8 +117,9 @@ class ChangesTest(unittest.TestCase):
         now, wish = [TOP, -TOP, TOP - 1], [-TOP, TOP, None]
         self.assertEqual(with_free(now, wish, 1), 3)
         self.assertEqual(with_free([TOP, -TOP, 0], [-TOP, TOP, 0], 1), 3)
-        self.assertIsNone(with_free([1, 2], [TOP, 1], 1))
-        self.assertIsNone(with_free([1, 2], [-TOP, 1], 60))
+        for value in (TOP, TOP - 1, -TOP, 1 - TOP, 0, -1, 3):
+            self.assertIsNone(with_free([1, 2], [value, 1], 1))
+            self.assertIsNone(with_free([1, 2], [None, value], 60))
 
     def test_a_copy_brings_what_is_missing(self):
         self.assertIsNone(fewest_moves([1, 2], [5, 2]))

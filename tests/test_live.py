@@ -228,6 +228,16 @@ class ErrorsTest(Checks):
                 self.assertIs(is_ticks(3, 3, [wrong]), False)
             self.assertEqual(desk.at_once([(0, 1), (1, 2), (2, 0)]), [3, 1, 1])
 
+    def test_three_moves_at_once_and_no_more(self):
+        moves = [(0, 1), (1, 2), (2, 3), (3, 4), (4, 0)]
+        for one in CLASSES:
+            desk = made(one, [1, 2, 3, 4, 5])
+            for many in (0, 4, 5):
+                self.assertEqual(self.raised(desk.at_once, moves[:many]), (InvalidTicks, {"index": None}))
+            self.assertEqual(desk.at_once(moves[:3]), [1, 1, 2, 3, 5])
+            self.assertEqual(desk.at_once(moves[3:]), [5, 1, 2, 3, 3])
+            self.assertEqual(desk.at_once(moves[2:3]), [5, 1, 2, 2, 3])
+
     def test_steps(self):
         right = ("move", 0, 1)
         for one in CLASSES:

@@ -17,6 +17,7 @@ class Cells:
         # The content ahead of each deed, and behind the last one.
         self._held = [list(now)]
         self._deeds = []
+        # Only the classes that keep values have some, but all are compared by them.
         self._kept = None
 
     def __len__(self):
@@ -24,7 +25,12 @@ class Cells:
 
     def __eq__(self, other):
         """Whether it is of the same class, was made with the same arguments and has equal deeds."""
-        return type(self) is type(other) and self._told() == other._told()
+        return (
+            type(self) is type(other)
+            and self._held[0] == other._held[0]
+            and self._kept == other._kept
+            and self._deeds == other._deeds
+        )
 
     @property
     def contents(self):
@@ -80,10 +86,6 @@ class Cells:
     def described(self):
         """The content, the number of deeds, and None twice."""
         return self.contents, len(self._deeds), None, None
-
-    def _told(self):
-        """What it was made with, and its deeds."""
-        return self._held[0], self._kept, self._deeds
 
     def _as_now(self, fresh):
         """A new object that was made with the same arguments, with the same deeds."""
