@@ -42,6 +42,38 @@ def imports_of(path):
     return [node for node in ast.walk(tree_of(path)) if isinstance(node, (ast.Import, ast.ImportFrom))]
 
 
+def is_plain(node, properties):
+    """Whether a value may stand behind a star of a call: a name, an attribute off one, a literal, or some of these."""
+    if isinstance(node, ast.Attribute):
+        return isinstance(node.value, ast.Name) and node.attr not in properties
+    if isinstance(node, (ast.List, ast.Tuple)):
+        return all(is_plain(part, properties) for part in node.elts)
+    if isinstance(node, ast.Dict):
+        return all(is_plain(part, properties) for part in [*node.keys, *node.values])
+    return isinstance(node, (ast.Name, ast.Constant))
+
+
+def is_star_call_allowed(call, properties):
+    """Whether a call follows L7 ("Calls with stars"); each call without a star does."""
+    parts = sorted([*call.args, *call.keywords], key=lambda part: (part.lineno, part.col_offset))
+    stars = [at for at, part in enumerate(parts) if isinstance(part, ast.Starred)]
+    doubled = [part.value for part in parts if isinstance(part, ast.keyword) and part.arg is None]
+    named = [at for at, part in enumerate(parts) if isinstance(part, ast.keyword) and part.arg is not None]
+    if doubled and (len(doubled) > 1 or named or not isinstance(doubled[0], (ast.Name, ast.Attribute))):
+        return False
+    if stars and named and named[0] < stars[-1]:
+        return False
+    watched = parts if doubled else parts[stars[0]:] if stars else []
+    values = [part.value if isinstance(part, (ast.Starred, ast.keyword)) else part for part in watched]
+    return all(is_plain(value, properties) for value in values)
+
+
+def wrong_star_calls(tree, properties):
+    """The lines of the calls with stars that L7 does not allow."""
+    return [node.lineno for node in ast.walk(tree)
+            if isinstance(node, ast.Call) and not is_star_call_allowed(node, properties)]
+
+
 class LanguageTest(unittest.TestCase):
     def test_the_folder_holds_python_files_only(self):
         names = [path.name for path in PACKAGE.iterdir() if path.name != "__pycache__"]
@@ -126,6 +158,32 @@ class LanguageTest(unittest.TestCase):
             iterated += [node.value for node in nodes if isinstance(node, ast.YieldFrom)]
             self.assertEqual([node.lineno for node in calls if node not in iterated], [], path.name)
             self.assertEqual([node.lineno for node in nodes if isinstance(node, ast.GeneratorExp)], [], path.name)
+
+    def test_behind_stars_of_calls_stand_plain_values(self):
+        properties = [node.name for path in files() for node in ast.walk(tree_of(path))
+                      if isinstance(node, ast.FunctionDef) and node.decorator_list]
+        for path in files():
+            self.assertEqual(wrong_star_calls(tree_of(path), properties), [], path.name)
+
+    def test_calls_behind_stars_are_found(self):
+        for text in ["f(*g(x))", "f(k, *g(x))", "f(*xs, *g(x))", "f(*xs, g(x))", "f(*xs, n=g(x))", "f(*[g(x)])",
+                     "f(*(1, [g(x)]))", "f(*{1: g(x)})", "f(*xs.copy())", "f(*g(x).rows)", "f(**g(x))", "f(g(x), **d)",
+                     "f(*g(x), **d)", "f(*g(x) or xs)", "h(f(*g(x)))", "[f(*g(x)) for x in xs]"]:
+            with self.subTest(text=text):
+                self.assertEqual(wrong_star_calls(ast.parse(text), []), [1])
+
+    def test_what_else_is_not_behind_stars_is_found(self):
+        for text in ["f(*xs[1:])", "f(*xs + ys)", "f(*[x for x in xs])", "f(*box.rows)", "f(*box.inner.many)",
+                     "f(n=1, *xs)", "f(n=1, **d)", "f(**d, **e)", "f(**{1: 2})"]:
+            with self.subTest(text=text):
+                self.assertEqual(wrong_star_calls(ast.parse(text), ["rows"]), [1])
+
+    def test_stars_that_are_allowed(self):
+        for text in ["f(*xs)", "f(k, *xs)", "f(g(x), *xs)", "f(*xs, n, sep=n)", "f(**d)", "f(*box.many)",
+                     "f(*[1, (n, {1: n})])", "f(n, *xs, **box.table)", "f(g(x), n=g(x))", "f([*g(x), 1])",
+                     "[*g(x), *h(x)]"]:
+            with self.subTest(text=text):
+                self.assertEqual(wrong_star_calls(ast.parse(text), ["rows"]), [])
 
     def test_names_that_are_called(self):
         nodes = [node for path in files() for node in ast.walk(tree_of(path))]

@@ -84,7 +84,8 @@ def count_first(now, wish, cell):
     left, above = wrong_in(now, wish), above_in(now, wish)
     if cell not in next_cells(left, above):
         return 0
-    return count_sequences(*behind_cell(left, above, cell))
+    left, above = behind_cell(left, above, cell)
+    return count_sequences(left, above)
 
 
 def order_row(now, wish, order):
